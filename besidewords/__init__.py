@@ -1,0 +1,1 @@
+"""Besidewords: a book of words in their places, in two tongues."""
