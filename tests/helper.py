@@ -1,8 +1,10 @@
 """What several tests need: small rows, the sizes of the document, and its plain readings, written without the program.
 """
 
+import contextlib
 import copy
 import itertools
+import signal
 
 
 def small_rows(most):
@@ -82,6 +84,117 @@ def plain_full(rows):
         if len(places) >= 2 and not longer:
             told.append((stretch, places))
     return told
+
+
+def plain_meets(question, row, low, high):
+    """Point 19, word for word: every way to cut the span is tried."""
+    return any(plain_row_meets(parts, row, low, high) for parts in question)
+
+
+def plain_row_meets(parts, row, low, high):
+    if not parts:
+        return low == high
+    return any(plain_part_meets(parts[0], row, low, cut) and plain_row_meets(parts[1:], row, cut, high)
+               for cut in range(low, high + 1))
+
+
+def plain_part_meets(part, row, low, high):
+    words = row[low:high]
+    if part[0] == "in":
+        return plain_meets(part[1], row, low, high)
+    if part[0] == "upto":
+        return len(words) <= part[1]
+    if len(words) != 1:
+        return False
+    if part[0] == "any":
+        return True
+    length = len(part[1])
+    return {"word": words[0], "begin": words[0][:length], "end": words[0][-length:]}[part[0]] == part[1]
+
+
+def plain_spans(question, row):
+    numbers = range(len(row) + 1)
+    return [(low, high) for low in numbers for high in numbers if low <= high and plain_meets(question, row, low, high)]
+
+
+def plain_found(rows, question):
+    return [(number, low, high) for number, row in enumerate(rows) for low, high in plain_spans(question, row)]
+
+
+def met_lengths(question, most):
+    """How many words a question of any, upto and in alone may meet, up to so many."""
+    told = set()
+    for parts in question:
+        lengths = {0}
+        for part in parts:
+            if part[0] == "in":
+                its = met_lengths(part[1], most)
+            else:
+                its = {1} if part[0] == "any" else set(range(part[1] + 1))
+            lengths = {one + other for one in lengths for other in its if one + other <= most}
+        told |= lengths
+    return told
+
+
+PARTS = [("word", "a"), ("word", "ab"), ("begin", "a"), ("end", "b"), ("any",), ("upto", 0), ("upto", 1), ("upto", 2)]
+WORDS = ["a", "b", "ab", "ba"]
+
+
+def small_questions():
+    """All questions of one or two parts, choices of two parts, and brackets around these, alone and beside a part."""
+    rows_of_parts = [[part] for part in PARTS] + [[one, other] for one in PARTS for other in PARTS]
+    for parts in rows_of_parts:
+        yield [parts]
+        yield [[("in", [parts])]]
+    for one in PARTS:
+        for other in PARTS:
+            choice = ("in", [[one], [other]])
+            yield [[one], [other]]
+            yield [[choice, ("any",)]]
+            yield [[("any",), choice], [choice, choice]]
+
+
+def chance_question(chance, depth):
+    """A question by a seeded source of chance, with brackets at most so deep."""
+    return [[chance_part(chance, depth) for number in range(chance.choice((1, 1, 2, 3)))]
+            for choice in range(chance.choice((1, 1, 1, 2, 3)))]
+
+
+def chance_part(chance, depth):
+    if depth > 0 and chance.random() < 0.3:
+        return ("in", chance_question(chance, depth - 1))
+    return chance.choice(PARTS + [("begin", "b"), ("end", "a"), ("upto", 3), ("upto", 9)])
+
+
+def nested(depth, part=("any",)):
+    """A question with a part in so many brackets."""
+    question = [[part]]
+    for number in range(depth):
+        question = [[("in", question)]]
+    return question
+
+
+def great_texts():
+    """Questions of about three hundred tokens with many uptos and brackets, of which many cut a span in many ways."""
+    return [
+        " ".join(["..9"] * 300), " ".join(["..1"] * 300), " | ".join(["..9"] * 150), " ".join(["..9", "?"] * 50),
+        " ".join(["( ..1 | ? )"] * 60), " ".join(["( ..9 ..9 | ( ..9 ) )"] * 33), "( " * 20 + "..9 " * 260 + ") " * 20,
+        "( ..1 ( ..2 | " * 10 + " ".join(["? | ..1"] * 20) + " ) ..3 )" * 10,
+        " | ".join([" ".join(["..9"] * 11)] * 25), " | ".join(["( ? | ..2 ) ( ..3 | ? ? )"] * 23)]
+
+
+@contextlib.contextmanager
+def good_time(seconds):
+    """Fails what is not over by then: a way that tries all cuts would take longer than anyone waits."""
+    def late(number, frame):
+        raise AssertionError(f"not answered in {seconds} seconds")
+    before = signal.signal(signal.SIGALRM, late)
+    signal.alarm(seconds)
+    try:
+        yield
+    finally:
+        signal.alarm(0)
+        signal.signal(signal.SIGALRM, before)
 
 
 def spoil(value):

@@ -211,6 +211,24 @@ class Language(unittest.TestCase):
         for path in PACKAGE.glob("*.py"):
             self.assertRegex(path.name, r"\A([a-z][a-z0-9_]*|__init__|__main__)\.py\Z")
 
+    def test_names_are_drawn_from_the_file_that_defines_them_and_no_two_files_from_one_another(self):
+        trees = {}
+        drawn = {}
+        for file in PACKAGE.glob("*.py"):
+            tree = ast.parse(file.read_text(encoding="utf-8"))
+            trees["besidewords." + file.stem] = tree
+            drawn["besidewords." + file.stem] = [node for node in tree.body if isinstance(node, ast.ImportFrom)]
+        for module, imports in drawn.items():
+            for node in imports:
+                names = {getattr(part, "name", None) for part in trees[node.module].body}
+                names |= {part.targets[0].id for part in trees[node.module].body if isinstance(part, ast.Assign)}
+                self.assertLessEqual({alias.name for alias in node.names}, names, "L16 " + module)
+        left = set(drawn)
+        while left:
+            free = {module for module in left if not left & {node.module for node in drawn[module]}}
+            self.assertTrue(free, f"L16 {sorted(left)}")
+            left -= free
+
     def test_good_code_is_let_by(self):
         self.assertEqual(faults('"""Why."""\nXS = (1, 2)\n\n\ndef f(a, b=1):\n    return sorted(set(a + [b]))\n'), [])
 
