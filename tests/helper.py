@@ -4,7 +4,12 @@
 import contextlib
 import copy
 import itertools
+import re
 import signal
+
+from besidewords.errors import BesideError, NoDeed, NoQuestion, NoText, NoWay, Twice
+
+STEPS = [(1, 1), (1, 2), (2, 1), (1, 0), (0, 1)]
 
 
 def small_rows(most):
@@ -183,6 +188,71 @@ def great_texts():
         " | ".join([" ".join(["..9"] * 11)] * 25), " | ".join(["( ? | ..2 ) ( ..3 | ? ? )"] * 23)]
 
 
+def plain_price(lefts, rights, prices, pairs):
+    """Point 23, word for word."""
+    one, two, none, slope, lone = prices
+    left_words, right_words = sum(lefts, []), sum(rights, [])
+    fixed = {2: one, 3: two, 1: none}[len(lefts) + len(rights)]
+    many = sum(all((left, right) not in pairs for right in right_words) for left in left_words)
+    many += sum(all((left, right) not in pairs for left in left_words) for right in right_words)
+    return fixed + slope * abs(len(left_words) - len(right_words)) + lone * many
+
+
+def plain_way_price(lefts, rights, prices, pairs, steps):
+    if not steps:
+        return 0
+    left, right = steps[0]
+    first = plain_price(lefts[:left], rights[:right], prices, pairs)
+    return first + plain_way_price(lefts[left:], rights[right:], prices, pairs, steps[1:])
+
+
+def all_ways(many, others):
+    """All ways of so many left and right rows."""
+    if (many, others) == (0, 0):
+        return [[]]
+    told = []
+    for left, right in STEPS:
+        if left <= many and right <= others:
+            told += [[(left, right)] + rest for rest in all_ways(many - left, others - right)]
+    return told
+
+
+def plain_rows(text):
+    rows = [re.findall("[a-z0-9]+", part.lower()) for part in text.split("\n")]
+    return [row for row in rows if row]
+
+
+def plain_together(texts):
+    """Of texts by names: where each row of them comes from, and the rows, in the order of places in a book."""
+    named = [((name, number), row) for name in sorted(texts) for number, row in enumerate(plain_rows(texts[name]))]
+    return [origin for origin, row in named], [row for origin, row in named]
+
+
+def plain_book_ends(texts):
+    """All ends of a book in order, each a tuple (end, place)."""
+    origins, rows = plain_together(texts)
+    return sorted((row[at:], origin + (at,)) for origin, row in zip(origins, rows) for at in range(len(row)))
+
+
+def plain_book(texts):
+    """What a book of these texts tells of itself."""
+    told = plain_book_ends(texts)
+    origins, rows = plain_together(texts)
+    in_common = [max(many for many in range(len(one) + 1) if one[:many] == other[:many])
+                 for (one, place), (other, behind) in zip(told, told[1:])]
+    full = [(stretch, [origins[row] + (at,) for row, at in places]) for stretch, places in plain_full(rows)]
+    return {"names": sorted(texts), "rows": {name: plain_rows(text) for name, text in texts.items()},
+            "ends": [place for end, place in told], "shares": [0][:len(told)] + in_common, "full_stretches": full}
+
+
+def plain_book_found(texts, question):
+    return [(name,) + met for name in sorted(texts) for met in plain_found(plain_rows(texts[name]), question)]
+
+
+def plain_book_numbers(texts, name):
+    return [number for number, (end, place) in enumerate(plain_book_ends(texts)) if place[0] == name]
+
+
 @contextlib.contextmanager
 def good_time(seconds):
     """Fails what is not over by then: a way that tries all cuts would take longer than anyone waits."""
@@ -220,3 +290,14 @@ def check_own(test, function, *handed):
     spoil(handed)
     test.assertEqual(second, told, "a change of what was handed in changes what was told")
     test.assertEqual(function(*before), told)
+
+
+def check_refused(test, refusal, function, *handed):
+    """That it is refused with this class, which no other one of the refusals is; told is the refusal."""
+    with test.assertRaises(refusal, msg=repr(handed)) as caught:
+        function(*handed)
+    for above in (BesideError, ValueError):
+        test.assertIsInstance(caught.exception, above)
+    for other in {NoQuestion, NoWay, Twice, NoText, NoDeed} - {refusal}:
+        test.assertNotIsInstance(caught.exception, other)
+    return caught.exception

@@ -25,22 +25,51 @@ NODES = set("""Module Expr Constant ImportFrom alias FunctionDef ClassDef argume
     Dict Set ListComp comprehension Lambda IfExp BoolOp And Or UnaryOp Not USub UAdd Invert BinOp Add Sub Mult FloorDiv
     Mod Pow BitAnd BitOr BitXor LShift RShift Compare Eq NotEq Lt LtE Gt GtE Is IsNot In NotIn JoinedStr FormattedValue
     keyword""".split())
+VALUES_LIKE_METHODS = set("count index title find get join lower upper split strip copy add".split())
 WALKED = {"zip", "enumerate", "reversed", "range", "items", "keys", "values"}
 WALKERS = {"list", "tuple", "dict", "sorted", "sum", "any", "all", "enumerate", "zip", "min", "max", "join"}
 
 
-def faults(source):
-    """The faults of one file of the package, each a text."""
+def faults(source, others=()):
+    """The faults of one file of the package, each a text; others are the methods that other files have."""
     told = text_faults(source)
     tree = ast.parse(source)
     parents = {child: node for node in ast.walk(tree) for child in ast.iter_child_nodes(node)}
     bound = top_names(tree)
-    methods = OWN_METHODS | {node.name for node in ast.walk(tree) if isinstance(node, ast.FunctionDef)}
+    methods = OWN_METHODS | set(others) | methods_of(tree)
     told += top_faults(tree)
     for node in ast.walk(tree):
         line = getattr(node, "lineno", 0)
         for fault in node_faults(node, parents, bound, methods):
             told.append(f"{line}: {fault}")
+    return told
+
+
+def methods_of(tree):
+    return {part.name for node in tree.body if isinstance(node, ast.ClassDef)
+            for part in node.body if isinstance(part, ast.FunctionDef)}
+
+
+def values_of(tree):
+    """What is given to objects: self.name = .."""
+    return {node.attr for node in ast.walk(tree) if isinstance(node, ast.Attribute) and isinstance(node.ctx, ast.Store)}
+
+
+def class_faults(trees):
+    """Faults in the names of methods and values, over all files of the package."""
+    methods = set().union(*map(methods_of, trees))
+    values = set().union(*map(values_of, trees))
+    pythons = {name for kind in (str, int, list, tuple, dict, set, bytes) for name in dir(kind)}
+    told = ["L18 " + name for name in methods & values]
+    told += ["L26 " + name for name in methods & pythons - OWN_METHODS - METHODS_WITH_UNDERSCORES - {"add", "discard"}]
+    told += ["L26 " + name for name in values & (pythons | {"args"}) - VALUES_LIKE_METHODS]
+    for node in [node for tree in trees for node in tree.body if isinstance(node, ast.ClassDef)]:
+        names = [part.name for part in node.body if isinstance(part, ast.FunctionDef)]
+        told += ["L18 twice " + name for name in set(names) if names.count(name) > 1]
+        for part in node.body:
+            if getattr(part, "name", None) == "__init__":
+                returns = [inner for inner in ast.walk(part) if isinstance(inner, ast.Return)]
+                told += ["L28 " + node.name for inner in returns if inner.value is not None]
     return told
 
 
@@ -202,8 +231,12 @@ class Language(unittest.TestCase):
     def test_the_package_keeps_to_the_rules(self):
         files = sorted(PACKAGE.glob("*.py"))
         self.assertIn(PACKAGE / "__init__.py", files)
-        for file in files:
-            self.assertEqual(faults(file.read_text(encoding="utf-8")), [], file.name)
+        sources = {file.name: file.read_text(encoding="utf-8") for file in files}
+        trees = [ast.parse(source) for source in sources.values()]
+        methods = set().union(*map(methods_of, trees))
+        for name, source in sources.items():
+            self.assertEqual(faults(source, methods), [], name)
+        self.assertEqual(class_faults(trees), [])
 
     def test_nothing_else_lies_in_the_package(self):
         others = [path.name for path in PACKAGE.iterdir() if path.suffix != ".py" and path.name != "__pycache__"]
@@ -247,6 +280,16 @@ class Language(unittest.TestCase):
                 "def f(x):\n    try:\n        g(x)\n    except:\n        pass", "def f(x):\n    for y in x:\n        "
                 "pass\n    else:\n        pass", "def f(x):\n    return x.append", "def f(x):\n    yield x"):
             self.assertNotEqual(faults(source), [], source)
+
+    def test_names_of_methods_and_values_outside_the_rules_are_found(self):
+        method = "class A:\n    def {}(self):\n        pass\n"
+        value = "class B:\n    def __init__(self):\n        self.{} = 1\n"
+        for sources in ([method.format("rows"), value.format("rows")], [method.format("sort")], [value.format("items")],
+                        [value.format("args")], [method.format("a") + "\n    def a(self):\n        pass\n"],
+                        ["class C:\n    def __init__(self):\n        return None\n"]):
+            self.assertNotEqual(class_faults([ast.parse(source) for source in sources]), [], sources)
+        good = [method.format("rows"), value.format("count"), method.format("append")]
+        self.assertEqual(class_faults([ast.parse(source) for source in good]), [])
 
 
 if __name__ == "__main__":

@@ -6,45 +6,15 @@ import unittest
 
 from besidewords.errors import BesideError, NoDeed, NoQuestion, NoText, NoWay, Twice
 from besidewords.prices import price, way_price
-from tests.helper import check_own, good_time, great_rows
+from tests.helper import STEPS, all_ways, check_own, good_time, great_rows, plain_price, plain_way_price
 
 # Each price tells itself apart from the others in a sum.
 PRICES = (1, 100, 10000, 1000000, 100000000)
-STEPS = [(1, 1), (1, 2), (2, 1), (1, 0), (0, 1)]
 GREATEST = 10 ** 60
 
 LEFTS = [["the", "mill"], ["by"], [], ["the", "race", "the"]]
 RIGHTS = [["die", "muehle"], [], ["der", "bach", "am"]]
 PAIRS = [("the", "die"), ("the", "der"), ("mill", "muehle"), ("race", "bach"), ("by", "am")]
-
-
-def plain_price(lefts, rights, prices, pairs):
-    """Point 23, word for word."""
-    one, two, none, slope, lone = prices
-    left_words, right_words = sum(lefts, []), sum(rights, [])
-    fixed = {2: one, 3: two, 1: none}[len(lefts) + len(rights)]
-    many = sum(all((left, right) not in pairs for right in right_words) for left in left_words)
-    many += sum(all((left, right) not in pairs for left in left_words) for right in right_words)
-    return fixed + slope * abs(len(left_words) - len(right_words)) + lone * many
-
-
-def plain_way_price(lefts, rights, prices, pairs, steps):
-    if not steps:
-        return 0
-    left, right = steps[0]
-    first = plain_price(lefts[:left], rights[:right], prices, pairs)
-    return first + plain_way_price(lefts[left:], rights[right:], prices, pairs, steps[1:])
-
-
-def all_ways(many, others):
-    """All ways of so many left and right rows."""
-    if (many, others) == (0, 0):
-        return [[]]
-    told = []
-    for left, right in STEPS:
-        if left <= many and right <= others:
-            told += [[(left, right)] + rest for rest in all_ways(many - left, others - right)]
-    return told
 
 
 class Price(unittest.TestCase):
